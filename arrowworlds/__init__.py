@@ -1,0 +1,1 @@
+"""Arrowworlds: small worlds of arrows and what is best in them."""
