@@ -15,15 +15,15 @@ def made_arrows(world):
 def reached_with(world, reached, fresh):
     """What the arrow fresh makes with reached arrows, again and again, together with these."""
     table = world[2]
-    rows = list(reached)
+    rows = {f: True for f in reached}
     waiting = [fresh]
     while waiting:
         f = waiting.pop()
         if f not in rows:
-            rows.append(f)
+            rows[f] = True
             for g in rows:
-                waiting.extend([both for both in (table[f][g], table[g][f]) if both >= 0])
-    return rows
+                waiting.extend([both for both in (table[f][g], table[g][f]) if both >= 0 and both not in rows])
+    return list(rows)
 
 
 def partners(world, f):

@@ -1,10 +1,8 @@
 """Arrows put together to parts, and the copies of worlds."""
 
-from arrowworlds.errors import TooMany
-from arrowworlds.leading import Leading
+from arrowworlds.copying import all_copies, one_copy
 from arrowworlds.making import listed_arrows, made_world
 from arrowworlds.partings import parts_told, put_together
-from arrowworlds.shades import alike_arrows
 
 MOST_COPIES = 1000
 
@@ -63,21 +61,11 @@ def into_joined(world, pairs):
     return (tuple(range(world[0])), tuple([number[f] for f in least]))
 
 
-def found_copies(one, other, most):
-    """The listings of the arrows for the copies; it stops behind one more than most."""
-    if one[0] != other[0] or len(one[1]) != len(other[1]):
-        return []
-    return Leading(one, other, True).found(alike_arrows(one, other), most)
-
-
 def copies(one, other):
     """All one-to-one maps that reach all of other, ascending; raises TooMany(1000) if there are more."""
-    listings = found_copies(one, other, MOST_COPIES)
-    if len(listings) > MOST_COPIES:
-        raise TooMany(MOST_COPIES)
-    return tuple(sorted([(q[:one[0]], q) for q in listings]))
+    return tuple([(q[:one[0]], q) for q in sorted(all_copies(one, other, MOST_COPIES))])
 
 
 def are_copies(one, other):
     """Whether one is a copy of other."""
-    return len(found_copies(one, other, 0)) > 0
+    return one_copy(one, other) is not None

@@ -1,118 +1,149 @@
 """The search for the ways to lead the arrows of one world to arrows of another one.
 
-A list of choices tells for each arrow of the one world the arrows of the other one to
-which it may still go. An arrow with one choice left is settled.
+Choices tell for each arrow of the one world, as a set of bits, the arrows of the other
+one to which it may still go. An arrow with one choice left is settled.
 """
 
+from arrowworlds.bits import bits_of, many_in
 from arrowworlds.chiefs import chiefs_of
 from arrowworlds.worlds import turned
 
 
 def narrowest(choices, arrows):
     """The one of the arrows that is not settled and has the fewest choices, or None if all are settled."""
-    best = None
+    best, fewest = None, 0
     for f in arrows:
-        if len(choices[f]) != 1 and (best is None or len(choices[f]) < len(choices[best])):
-            best = f
+        if choices[f] & (choices[f] - 1):
+            many = many_in(choices[f])
+            if best is None or many < fewest:
+                best, fewest = f, many
     return best
+
+
+def settled_arrows(choices):
+    """The arrows that have one choice left."""
+    return [f for f, mask in enumerate(choices) if mask & (mask - 1) == 0]
 
 
 def settled_at(choices, f, g):
     """The choices in which f goes to g, and all else is as before."""
-    return choices[:f] + [[g]] + choices[f + 1:]
+    return choices[:f] + [1 << g] + choices[f + 1:]
+
+
+def origins_of(table):
+    """For each arrow g and each arrow w, the set of those k for which the table has w at g and k."""
+    found = []
+    for row in table:
+        masks = [0] * len(row)
+        for k, w in enumerate(row):
+            if w >= 0:
+                masks[w] |= 1 << k
+        found.append(masks)
+    return found
+
+
+def kept_by(table):
+    """For each arrow g the set of those k for which the table has k itself at g and k."""
+    return [sum([1 << k for k, w in enumerate(row) if w == k]) for row in table]
+
+
+def told_pairs(table, back, chiefs):
+    """For each arrow f what it makes with others, as triples (h, both, side).
+
+    On the side 0 both is f and then h, on the side 1 it is h and then f. What an arrow makes
+    with the chief arrows is enough, as these make all others.
+    """
+    every = list(range(len(table)))
+    found = []
+    for f in every:
+        met = every if f in chiefs else chiefs
+        sides = [(h, table[f][h], 0) for h in met] + [(h, back[f][h], 1) for h in met]
+        found.append([told for told in sides if told[1] >= 0])
+    return found
 
 
 class Leading:
     """Leads arrows so that f and then g goes to what f and g go to, one behind the other.
 
-    If it is strict, no two arrows go to one, and arrows that do not follow one another
-    go to such ones.
+    If it is strict, no two arrows go to one.
     """
 
     def __init__(self, one, other, strict):
-        self.table = one[2]
-        self.ahead = other[2]
-        self.back = turned(other)[2]
-        self.strict = strict
         self.chiefs = chiefs_of(one)
+        self.pairs = told_pairs(one[2], turned(one)[2], self.chiefs)
+        self.tables = (other[2], turned(other)[2])
+        self.origins = [origins_of(table) for table in self.tables]
+        self.kept = [kept_by(table) for table in self.tables]
+        self.strict = strict
 
-    def may_go(self, choices, both, image):
-        """Whether what two arrows make, -1 for nothing, may go to what their images make."""
-        if both < 0:
-            return image < 0 or not self.strict
-        return image in choices[both]
+    def take_away(self, left, f, waiting):
+        """Take the arrow to which f goes from all other choices; returns whether each keeps one."""
+        taken = left[f]
+        for h in range(len(left)):
+            if left[h] & taken and h != f:
+                if left[h] == taken:
+                    return False
+                left[h] -= taken
+                if left[h] & (left[h] - 1) == 0:
+                    waiting.append(h)
+        return True
 
-    def force(self, choices, fresh):
-        """Settle what the fresh arrows make with the settled ones; this changes the choices.
-
-        Returns all arrows that are settled by this, the fresh ones among them, or None
-        if they contradict one another.
-        """
-        settled = [f for f, row in enumerate(choices) if len(row) == 1 and f not in fresh]
-        waiting = list(fresh)
-        told = []
-        while waiting:
-            f = waiting.pop()
-            settled.append(f)
-            told.append(f)
-            for h in settled:
-                if self.strict and h != f and choices[h] == choices[f]:
-                    return None
-                g, k = choices[f][0], choices[h][0]
-                for both, image in ((self.table[f][h], self.ahead[g][k]), (self.table[h][f], self.ahead[k][g])):
-                    if not self.may_go(choices, both, image):
-                        return None
-                    if both >= 0 and len(choices[both]) > 1:
-                        choices[both] = [image]
-                        waiting.append(both)
-        return told
-
-    def fitting(self, choices, f, h):
-        """The choices of h that fit the arrow f, which is settled."""
-        g, left = choices[f][0], choices[h]
-        if self.strict:
-            left = [k for k in left if k != g]
-        for both, images in ((self.table[f][h], self.ahead[g]), (self.table[h][f], self.back[g])):
-            if both == h:
-                left = [k for k in left if images[k] == k]
-            elif both >= 0 or self.strict:
-                left = [k for k in left if self.may_go(choices, both, images[k])]
-        return left
-
-    def narrow(self, choices, told):
-        """Take away choices that do not fit the arrows told; returns the arrows settled by this."""
-        fresh = []
-        for h in range(len(choices)):
-            before = len(choices[h])
-            for f in told:
-                if len(choices[h]) > 1:
-                    choices[h] = self.fitting(choices, f, h)
-            if len(choices[h]) == 1 and before > 1:
-                fresh.append(h)
-        return fresh
+    def spread(self, left, f, waiting):
+        """Narrow the choices by where f goes, and note what this settles; returns whether they fit."""
+        g = left[f].bit_length() - 1
+        for h, both, side in self.pairs[f]:
+            mask, image = left[h], left[both]
+            if mask & (mask - 1) == 0:
+                image = self.tables[side][g][mask.bit_length() - 1]
+                if image < 0 or left[both] & (1 << image) == 0:
+                    return False
+                if left[both] != 1 << image:
+                    left[both] = 1 << image
+                    waiting.append(both)
+            elif both == h or image & (image - 1) == 0:
+                mask &= self.kept[side][g] if both == h else self.origins[side][g][image.bit_length() - 1]
+                if mask == 0:
+                    return False
+                if mask != left[h]:
+                    left[h] = mask
+                    if mask & (mask - 1) == 0:
+                        waiting.append(h)
+        return True
 
     def settle(self, choices, fresh):
-        """The choices left behind the fresh arrows, or None if these contradict one another."""
+        """The choices left behind the fresh arrows, which are settled, or None if these contradict one another."""
+        if 0 in choices:
+            return None
         left = list(choices)
-        waiting = fresh
-        while waiting and [] not in left:
-            told = self.force(left, waiting)
-            if told is None:
+        waiting = list(fresh)
+        while waiting:
+            f = waiting.pop()
+            if self.strict and not self.take_away(left, f, waiting):
                 return None
-            waiting = self.narrow(left, told)
-        return None if [] in left else left
+            if not self.spread(left, f, waiting):
+                return None
+        return left
 
-    def found(self, choices, most):
-        """All ways to lead the arrows within the choices; it stops behind one more than most."""
+    def found(self, choices, fresh, most, patience):
+        """All ways to lead the arrows within the choices; it stops behind one more than most.
+
+        The fresh arrows are those that were settled last. It returns None if it comes
+        to more dead ends than its patience, None for any number.
+        """
         rows = []
-        waiting = [(choices, [f for f, row in enumerate(choices) if len(row) == 1])]
+        dead = 0
+        waiting = [(choices, fresh)]
         while waiting and len(rows) <= most:
-            before, fresh = waiting.pop()
-            left = self.settle(before, fresh)
-            if left is not None:
-                f = narrowest(left, self.chiefs)
-                if f is None:
-                    rows.append(tuple([row[0] for row in left]))
-                else:
-                    waiting.extend([(settled_at(left, f, g), [f]) for g in reversed(left[f])])
+            before, last = waiting.pop()
+            left = self.settle(before, last)
+            if left is None:
+                dead += 1
+                if patience is not None and dead > patience:
+                    return None
+                continue
+            f = narrowest(left, self.chiefs)
+            if f is None:
+                rows.append(tuple([mask.bit_length() - 1 for mask in left]))
+            else:
+                waiting.extend([(settled_at(left, f, g), [f]) for g in reversed(bits_of(left[f]))])
         return rows

@@ -21,10 +21,11 @@ NODES = (
     ast.UnaryOp, ast.Not, ast.USub, ast.Compare, ast.Eq, ast.NotEq, ast.Lt, ast.LtE, ast.Gt, ast.GtE, ast.Is,
     ast.IsNot, ast.In, ast.NotIn, ast.Call, ast.keyword, ast.IfExp, ast.Attribute, ast.Subscript, ast.Slice,
     ast.Name, ast.Load, ast.Store, ast.Constant, ast.Tuple, ast.List, ast.Dict, ast.ListComp, ast.DictComp,
-    ast.comprehension, ast.Lambda)
+    ast.comprehension, ast.Lambda, ast.BitAnd, ast.BitOr, ast.LShift, ast.JoinedStr, ast.FormattedValue)
 BUILTINS = ("len", "range", "enumerate", "zip", "min", "max", "sum", "abs", "sorted", "reversed", "int", "str", "bool",
             "list", "tuple", "dict", "set", "isinstance", "any", "all", "type", "ValueError")
-METHODS = ("append", "extend", "pop", "get", "items", "setdefault", "index", "count", "copy")
+METHODS = ("append", "extend", "pop", "get", "items", "setdefault", "index", "count", "copy", "update",
+           "values", "bit_length")
 BARRED = ("register", "mro", "elements", "open", "input", "law", "version_info", "with_traceback", "add_note", "_wall",
           "_WallAttr", "typing", "enum", "namedtuple", "dataclass", "overload", "contextmanager", "Generic", "Protocol",
           "attrgetter", "breakpoint", "builtins", "compile", "copyright", "credits", "delattr", "dir", "eval", "exec",
