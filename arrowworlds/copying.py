@@ -7,8 +7,9 @@ one another. So few searches tell many copies.
 """
 
 from arrowworlds.bits import bits_of
+from arrowworlds.choices import narrowest, settled_at, settled_places
 from arrowworlds.errors import TooMany
-from arrowworlds.leading import Leading, narrowest, settled_arrows, settled_at
+from arrowworlds.leading import Leading
 from arrowworlds.shades import alike_arrows, traits_of
 
 # So many dead ends of one search cost about as much as the sharp traits.
@@ -36,7 +37,7 @@ def movers_to(movers, f, still):
 def levels_of(search, choices):
     """For each level the choices of the copies that keep all arrows so far, and the arrow to be kept next."""
     found = []
-    left = search.settle(choices, settled_arrows(choices))
+    left = search.settle(choices, settled_places(choices))
     f = narrowest(left, search.chiefs)
     while f is not None:
         found.append((left, f))
@@ -95,7 +96,7 @@ def self_movers(world, most):
 def search_one(one, other, sharp, patience):
     """The list of one copy, told by its listing, or of none if there is none; None without patience."""
     choices = alike_arrows(traits_of(one, sharp), traits_of(other, sharp))
-    return Leading(one, other, True).found(choices, settled_arrows(choices), 0, patience)
+    return Leading(one, other, True).found(choices, settled_places(choices), 0, patience)
 
 
 def one_copy(one, other):

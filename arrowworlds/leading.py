@@ -1,33 +1,13 @@
 """The search for the ways to lead the arrows of one world to arrows of another one.
 
-Choices tell for each arrow of the one world, as a set of bits, the arrows of the other
-one to which it may still go. An arrow with one choice left is settled.
+Choices tell for each arrow of the one world the arrows of the other one to which it may
+still go.
 """
 
-from arrowworlds.bits import bits_of, many_in
+from arrowworlds.bits import bits_of
 from arrowworlds.chiefs import chiefs_of
+from arrowworlds.choices import is_settled, narrowest, settled_at, value_of
 from arrowworlds.worlds import turned
-
-
-def narrowest(choices, arrows):
-    """The one of the arrows that is not settled and has the fewest choices, or None if all are settled."""
-    best, fewest = None, 0
-    for f in arrows:
-        if choices[f] & (choices[f] - 1):
-            many = many_in(choices[f])
-            if best is None or many < fewest:
-                best, fewest = f, many
-    return best
-
-
-def settled_arrows(choices):
-    """The arrows that have one choice left."""
-    return [f for f, mask in enumerate(choices) if mask & (mask - 1) == 0]
-
-
-def settled_at(choices, f, g):
-    """The choices in which f goes to g, and all else is as before."""
-    return choices[:f] + [1 << g] + choices[f + 1:]
 
 
 def origins_of(table):
@@ -84,13 +64,13 @@ class Leading:
                 if left[h] == taken:
                     return False
                 left[h] -= taken
-                if left[h] & (left[h] - 1) == 0:
+                if is_settled(left[h]):
                     waiting.append(h)
         return True
 
     def spread(self, left, f, waiting):
         """Narrow the choices by where f goes, and note what this settles; returns whether they fit."""
-        g = left[f].bit_length() - 1
+        g = value_of(left[f])
         for h, both, side in self.pairs[f]:
             mask, image = left[h], left[both]
             if mask & (mask - 1) == 0:
@@ -143,7 +123,7 @@ class Leading:
                 continue
             f = narrowest(left, self.chiefs)
             if f is None:
-                rows.append(tuple([mask.bit_length() - 1 for mask in left]))
+                rows.append(tuple([value_of(mask) for mask in left]))
             else:
                 waiting.extend([(settled_at(left, f, g), [f]) for g in reversed(bits_of(left[f]))])
         return rows

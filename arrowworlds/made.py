@@ -1,6 +1,6 @@
 """Worlds made from worlds: products, sums, parts, and other numberings."""
 
-from arrowworlds.making import made_world
+from arrowworlds.making import listed_arrows, made_world, then_in
 
 
 def paired_arrow(one, other, f, g):
@@ -38,22 +38,37 @@ def sum_of(one, other):
     return made_world(things, stills, arrows, then)
 
 
+def named_stills(names):
+    """The still arrows of the things that have a name, told by their names."""
+    return [(names[x], names[x], (x,)) for x in names]
+
+
+def named_arrows(world, names):
+    """All arrows between the things that have a name, told by their names."""
+    return [(names[x], names[y], (f,)) for f, (x, y) in enumerate(world[1]) if x in names and y in names]
+
+
 def named_part(world, names):
     """The world of the things that have a name in the dict names, with all arrows between them."""
-    ends, table = world[1], world[2]
     things = [names[x] for x in names]
-    stills = [(names[x], names[x], (x,)) for x in names]
-    arrows = [(names[x], names[y], (f,)) for f, (x, y) in enumerate(ends) if x in names and y in names]
+    return made_world(things, named_stills(names), named_arrows(world, names), then_in(world[2]))
 
-    def then(first, second):
-        return (table[first[2][0]][second[2][0]],)
 
-    return made_world(things, stills, arrows, then)
+def part_names(things):
+    """The names of things as they are told by their numbers."""
+    return {x: (x,) for x in things}
 
 
 def part_of(world, things):
     """The world of some of the things, with all arrows between them."""
-    return named_part(world, {x: (x,) for x in things})
+    return named_part(world, part_names(things))
+
+
+def inclusion_of(world, things):
+    """The map from the part with these things, ascending, that takes each thing and arrow to itself."""
+    names = part_names(things)
+    listed = listed_arrows(named_stills(names), named_arrows(world, names))
+    return (tuple(things), tuple([arrow[2][0] for arrow in listed]))
 
 
 def renumbered(world, things):

@@ -28,6 +28,11 @@ def places_of(rows):
     return {row: k for k, row in enumerate(rows)}
 
 
+def then_in(table):
+    """What tells the name (f.g,) of two arrows with the names (f,) and (g,), for a table of what two arrows make."""
+    return lambda first, second: (table[first[2][0]][second[2][0]],)
+
+
 def table_row(listed, places, then, f):
     """The row of the arrow f in the table of the world."""
     return tuple([places[(f[0], g[1], then(f, g))] if f[1] == g[0] else -1 for g in listed])

@@ -2,9 +2,10 @@
 
 from arrowworlds.arrows import back_of
 from arrowworlds.bits import mask_of
+from arrowworlds.choices import settled_places
 from arrowworlds.errors import TooMany
 from arrowworlds.kinds import is_number_row, is_row
-from arrowworlds.leading import Leading, settled_arrows
+from arrowworlds.leading import Leading
 from arrowworlds.worlds import between
 
 MOST_MAPS = 1000
@@ -71,7 +72,7 @@ def map_choices(one, other):
 def maps_between(one, other):
     """All maps from one to other, ascending; raises TooMany(1000) if there are more."""
     choices = map_choices(one, other)
-    leads = Leading(one, other, False).found(choices, settled_arrows(choices), MOST_MAPS, None)
+    leads = Leading(one, other, False).found(choices, settled_places(choices), MOST_MAPS, None)
     if len(leads) > MOST_MAPS:
         raise TooMany(MOST_MAPS)
     return tuple([(q[:one[0]], q) for q in sorted(leads)])

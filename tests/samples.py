@@ -6,8 +6,9 @@ so that the numbers of things and arrows stand in the tests as they are expected
 
 import itertools
 import random
+import time
 
-from arrowworlds import errors
+from arrowworlds import errors, maps
 
 
 def hand(n, ends, made=None):
@@ -210,3 +211,66 @@ def check_calls(case, function, arguments):
     case.assertEqual(by_place, by_name)
     case.assertTrue(is_plain(by_place), by_place)
     case.assertEqual(before, repr(arguments))
+
+
+def named_world(things, stills, arrows, then):
+    """The world with these names, numbered as [2] tells; arrows are triples of names, then tells the name of both."""
+    ordered = sorted(things)
+    others = sorted((ordered.index(a), ordered.index(b), name) for a, b, name in arrows if (a, b, name) not in stills)
+    listed = [(a, b, name) for thing in ordered for a, b, name in stills if a == thing]
+    listed += [(ordered[a], ordered[b], name) for a, b, name in others]
+    table = tuple(tuple(listed.index((f[0], g[1], then(f[2], g[2]))) if f[1] == g[0] else -1 for g in listed)
+                  for f in listed)
+    return (len(ordered), tuple((ordered.index(f[0]), ordered.index(f[1])) for f in listed), table)
+
+
+def between_by_words(world, x, y):
+    return [f for f, pair in enumerate(world[1]) if pair == (x, y)]
+
+
+def turnable_by_words(world):
+    """The turnable arrows of the world."""
+    arrows, stills = range(len(world[1])), range(world[0])
+    return [f for f in arrows if any(world[2][f][g] in stills and world[2][g][f] in stills for g in arrows)]
+
+
+def families_by_words(one, other, first, second):
+    """All families, found by trying out all rows of arrows with the right ends."""
+    choices = [between_by_words(other, first[0][x], second[0][x]) for x in range(one[0])]
+    return tuple(a for a in itertools.product(*choices) if is_family_by_words(one, other, first, second, a))
+
+
+def is_family_by_words(one, other, first, second, a):
+    return all(other[2][first[1][f]][a[y]] == other[2][a[x]][second[1][f]] for f, (x, y) in enumerate(one[1]))
+
+
+def drawn_maps(rng, one, other, many):
+    """Some of the maps from one to other, none if there are more than 1000."""
+    try:
+        found = maps.maps_between(one, other)
+    except errors.TooMany:
+        return []
+    return [rng.choice(found) for _ in range(many if found else 0)]
+
+
+def with_others(value):
+    """The value with one entry, however deep, left out, doubled, put in or exchanged for a value of another kind."""
+    yield from WRONG_VALUES
+    if type(value) is tuple:
+        yield list(value)
+        yield value + (0,)
+        yield value + ((),)
+        for k, entry in enumerate(value):
+            yield value[:k] + value[k + 1:]
+            yield value[:k + 1] + value[k:]
+            for more in with_others(entry):
+                yield value[:k] + (more,) + value[k + 1:]
+    elif type(value) is int:
+        yield from (-1, -2, 41, 10 ** 30, (value,), [value], bool(value))
+
+
+def seconds(function, *arguments):
+    """How long a call takes, whether it raises an error of the package or not."""
+    start = time.perf_counter()
+    raised(function, *arguments)
+    return time.perf_counter() - start

@@ -3,7 +3,8 @@
 import unittest
 
 from arrowworlds.bits import bits_of, many_in, mask_of
-from arrowworlds.leading import Leading, narrowest, settled_arrows, settled_at
+from arrowworlds.choices import narrowest, settled_at, settled_places
+from arrowworlds.leading import Leading
 from tests.samples import CHAIN2, EMPTY, FORK, IDLE, POINT, TWO, hand, loops, null, ring
 
 
@@ -15,7 +16,7 @@ class Searches(unittest.TestCase):
 
     def found(self, one, other, strict, rows, most=1000):
         choices = masks(rows)
-        return sorted(Leading(one, other, strict).found(choices, settled_arrows(choices), most, None))
+        return sorted(Leading(one, other, strict).found(choices, settled_places(choices), most, None))
 
     def test_bits(self):
         self.assertEqual(bits_of(0), [])
@@ -32,7 +33,7 @@ class Searches(unittest.TestCase):
         self.assertEqual(narrowest(masks([[1], [0, 1, 2], [0, 1], [0, 1]]), [0, 1, 2, 3]), 2)
         self.assertEqual(narrowest(masks([[1], [0, 1, 2], [0, 1], [0, 1]]), [3, 2]), 3)
         self.assertEqual(settled_at(masks([[1], [0, 1], [2]]), 1, 0), masks([[1], [0], [2]]))
-        self.assertEqual(settled_arrows(masks([[1], [0, 1], [2]])), [0, 2])
+        self.assertEqual(settled_places(masks([[1], [0, 1], [2]])), [0, 2])
 
     def test_two_arrows_to_one(self):
         self.assertEqual(self.found(FORK, FORK, False, [[0], [1], [2], [2]]), [(0, 1, 2, 2)])
