@@ -246,7 +246,7 @@ class IsAlikeness(unittest.TestCase):
         for one, other in ((POINT, BACK), (BACK, POINT), (TWO, TWO), (EMPTY, EMPTY)):
             good = alikeness(one, other)
             for value in with_others(good):
-                if value != good or type(value) is not tuple:
+                if repr(value) != repr(good):
                     self.check(one, other, value, False)
             for value in WRONG_VALUES:
                 self.check(one, other, value, False)
