@@ -5,8 +5,8 @@ be the entry of right at the value of the place j.
 
 What is found is told as a tree. A tree is a tuple (many, told, groups): many rows, in all
 of which the places in the dict told have the values told there; the other places are
-parted into groups that do not depend on one another, each told as the list of the trees
-for its rows. So rows are told without being written out one by one.
+parted into groups that do not depend on one another, each told as the list of two or
+more trees for its rows. So rows are told without being written out one by one.
 """
 
 from arrowworlds.bits import bits_of, many_in
@@ -66,17 +66,6 @@ def tied_places(choices, ties):
     return tied
 
 
-def chosen(left, group):
-    """One of the places of the group with the fewest values.
-
-    It is the one in the middle of these, as this is likely to part what is left.
-    """
-    many = [many_in(left[k]) for k in group]
-    fewest = min(many)
-    best = [k for k, size in zip(group, many) if size == fewest]
-    return best[len(best) // 2]
-
-
 class Choosing:
     """The search within choices and ties; it need not go on behind more than most rows."""
 
@@ -131,34 +120,44 @@ class Choosing:
                 seen.update({j: True for j in group})
         return found
 
-    def branches(self, left, group):
-        """The trees for the rows of a group, one for each value of one of its places that can stand."""
-        at = chosen(left, group)
-        if len(group) == 1:
-            return [(1, {at: v}, []) for v in bits_of(left[at])]
-        found = []
-        many = 0
-        for v in bits_of(left[at]):
-            if many <= self.most:
-                tree = self.tree(settled_at(left, at, v), [at], group)
-                if tree[0] > 0:
-                    many += tree[0]
-                    found.append(tree)
-        return found
+    def chosen(self, left, group):
+        """One of the places of the group with the fewest values, and of these with the most ties.
+
+        It is the one in the middle of these, as this is likely to part what is left.
+        """
+        ranks = []
+        for i in group:
+            loose = [j for j, _ in self.tied[i] if not is_settled(left[j])]
+            ranks.append((many_in(left[i]), -len(loose)))
+        least = min(ranks)
+        best = [i for i, rank in zip(group, ranks) if rank == least]
+        return best[len(best) // 2]
 
     def tree(self, choices, fresh, places):
         """The tree of the rows for the places within the choices."""
         left = self.narrowed(choices, fresh)
         if left is None:
             return (0, {}, [])
+        told = {i: value_of(left[i]) for i in places if is_settled(left[i])}
         many, groups = 1, []
         for group in self.groups_of(left, places):
-            branches = self.branches(left, group)
-            many *= sum([branch[0] for branch in branches])
-            groups.append(branches)
+            at = self.chosen(left, group)
+            branches, here = [], 0
+            for v in bits_of(left[at]):
+                if here <= self.most:
+                    branch = self.tree(settled_at(left, at, v), [at], group) if len(group) > 1 else (1, {at: v}, [])
+                    if branch[0] > 0:
+                        here += branch[0]
+                        branches.append(branch)
+            many *= here
             if many == 0:
                 return (0, {}, [])
-        return (many, {i: value_of(left[i]) for i in places if is_settled(left[i])}, groups)
+            if len(branches) == 1:
+                told.update(branches[0][1])
+                groups.extend(branches[0][2])
+            else:
+                groups.append(branches)
+        return (many, told, groups)
 
     def whole_tree(self):
         """The tree of all rows."""

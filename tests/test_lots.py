@@ -240,6 +240,31 @@ class Families(unittest.TestCase):
         self.assertEqual(len(lot_families(world, closed, other)), 0)
         self.assertEqual(len(lot_families(world, closed, closed)), 20)
 
+    def test_edges_and_points(self):
+        # Edges at seven things lead to their two points at the last one: families to all unlike pairs are colourings.
+        world = hand(8, [(k, 7) for k in range(7) for _ in range(2)])
+        pairs = [(a, b) for a in range(4) for b in range(4) if a != b]
+        colours = self.edge_lot([pairs] * 7, 4)
+        ring_of_five = [(k, (k + 1) % 5) for k in range(5)]
+        self.assertEqual(len(lot_families(world, self.edge_lot([ring_of_five[k:k + 1] for k in range(7)], 5), colours)),
+                         3 ** 5 - 3)
+        four = [(a, b) for a in range(4) for b in range(a)]
+        self.assertEqual(len(lot_families(world, self.edge_lot([four] + [[]] * 6, 4), colours)), 24)
+        five = [(a, b) for a in range(5) for b in range(a)]
+        self.assertEqual(lot_families(world, self.edge_lot([five] + [[]] * 6, 5), colours), ())
+        rng = random.Random(174)
+        for many in (140, 150, 160, 170):
+            edges = rng.sample([(a, b) for a in range(40) for b in range(a)], many)
+            lot = self.edge_lot([edges[k::7] for k in range(7)], 40)
+            self.assertIsNone(lot_breach(world, lot))
+            self.assertLess(seconds(lot_families, world, lot, colours), 3)
+
+    def edge_lot(self, rows, points):
+        """A lot over the world of seven things with two arrows each to the last one, told by its edges."""
+        sizes = tuple(len(row) for row in rows) + (points,)
+        ends = tuple(tuple(edge[side] for edge in row) for row in rows for side in range(2))
+        return (sizes, tuple(tuple(range(size)) for size in sizes) + ends)
+
     def test_family_of(self):
         self.assertEqual(family_of(FORK, ((1, 2), ((0,), (0, 1), (1,), (0,))), 0, 0), ((0,), (1, 0)))
         self.assertEqual(family_of(FORK, ((1, 2), ((0,), (0, 1), (1,), (0,))), 1, 1), ((), (1,)))
