@@ -66,12 +66,23 @@ def tied_places(choices, ties):
     return tied
 
 
-class Choosing:
-    """The search within choices and ties; it need not go on behind more than most rows."""
+def rows_told(tree):
+    """The rows of a tree, each as a dict from places to values."""
+    _, told, groups = tree
+    rows = [told]
+    parts = [[row for branch in branches for row in rows_told(branch)] for branches in groups]
+    # The short ones first, so that there are few rows as long as can be.
+    for _, k in sorted([(len(part), k) for k, part in enumerate(parts)]):
+        rows = [{**row, **more} for row in rows for more in parts[k]]
+    return rows
 
-    def __init__(self, choices, ties, most):
-        self.choices = kept_choices(choices, ties)
-        self.tied = tied_places(self.choices, ties)
+
+class Choosing:
+    """The search within choices and tied places; it need not go on behind more than most rows."""
+
+    def __init__(self, choices, tied, most):
+        self.choices = choices
+        self.tied = tied
         self.most = most
 
     def narrowed(self, choices, fresh):
@@ -164,31 +175,36 @@ class Choosing:
         places = list(range(len(self.choices)))
         return self.tree(self.choices, places, places)
 
+    def let_tree(self):
+        """The tree of all rows; raises TooMany if they are more than most."""
+        tree = self.whole_tree()
+        if tree[0] > self.most:
+            raise TooMany(self.most)
+        return tree
 
-def rows_told(tree):
-    """The rows of a tree, each as a dict from places to values."""
-    _, told, groups = tree
-    rows = [told]
-    parts = [[row for branch in branches for row in rows_told(branch)] for branches in groups]
-    # The short ones first, so that there are few rows as long as can be.
-    for _, k in sorted([(len(part), k) for k, part in enumerate(parts)]):
-        rows = [{**row, **more} for row in rows for more in parts[k]]
-    return rows
+    def how_many(self):
+        """How many rows there are; raises TooMany if they are more than most."""
+        return self.let_tree()[0]
+
+    def rows(self):
+        """All rows, as an ascending list of tuples; raises TooMany if they are more than most."""
+        tree = self.let_tree()
+        if tree[0] == 0:
+            return []
+        return sorted([tuple([row[k] for k in range(len(self.choices))]) for row in rows_told(tree)])
+
+
+def search_by(choices, ties, most):
+    """The search within choices and ties."""
+    kept = kept_choices(choices, ties)
+    return Choosing(kept, tied_places(kept, ties), most)
 
 
 def count_rows(choices, ties, most):
     """How many rows fit; raises TooMany if they are more than most."""
-    many = Choosing(choices, ties, most).whole_tree()[0]
-    if many > most:
-        raise TooMany(most)
-    return many
+    return search_by(choices, ties, most).how_many()
 
 
 def all_rows(choices, ties, most):
     """All rows that fit, as an ascending list of tuples; raises TooMany if they are more than most."""
-    tree = Choosing(choices, ties, most).whole_tree()
-    if tree[0] > most:
-        raise TooMany(most)
-    if tree[0] == 0:
-        return []
-    return sorted([tuple([row[k] for k in range(len(choices))]) for row in rows_told(tree)])
+    return search_by(choices, ties, most).rows()

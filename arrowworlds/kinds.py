@@ -14,3 +14,8 @@ def is_row(value, many):
 def is_number_row(value, many, low, high):
     """Whether the value is a tuple of so many integers from low to high."""
     return is_row(value, many) and all([is_number(entry, low, high) for entry in value])
+
+
+def is_ascending(row):
+    """Whether each entry of the row is less than the next one."""
+    return all([row[k] < row[k + 1] for k in range(len(row) - 1)])

@@ -91,13 +91,17 @@ def parted_row(sizes, row):
     return tuple(found)
 
 
-def lot_families(world, one, other):
-    """All families from the lot one to the lot other, ascending; raises TooMany(1000) if there are more."""
+def family_rows(world, one, other, most):
+    """All families between the lots, each as one row of all its entries, ascending; raises TooMany(most)."""
     moved = moved_elements(world, one)
     places = {element: k for k, element in enumerate(moved)}
     choices = [(1 << other[0][x]) - 1 for x, _ in moved]
-    rows = all_rows(choices, lot_ties(moved, places, other), MOST_LOT_FAMILIES)
-    return tuple([parted_row(one[0], row) for row in rows])
+    return all_rows(choices, lot_ties(moved, places, other), most)
+
+
+def lot_families(world, one, other):
+    """All families from the lot one to the lot other, ascending; raises TooMany(1000) if there are more."""
+    return tuple([parted_row(one[0], row) for row in family_rows(world, one, other, MOST_LOT_FAMILIES)])
 
 
 def family_of(world, lot, x, k):
@@ -143,6 +147,20 @@ def sized(sizes):
     if any([size > MOST_AT_THING for size in sizes]):
         raise TooMany(MOST_AT_THING)
     return tuple(sizes)
+
+
+def lot_of_choices(world, keys, rows, led):
+    """The lot whose elements at a thing are the rows there, ascending, with an entry for each of its keys.
+
+    An arrow f moves a row to the one whose entry at a key is that of the row at led(f, key).
+    """
+    numbers = [{choice: k for k, choice in enumerate(choices)} for choices in rows]
+    moves = []
+    for f, (x, y) in enumerate(world[1]):
+        places = {key: k for k, key in enumerate(keys[x])}
+        kept = [places[led(f, key)] for key in keys[y]]
+        moves.append(tuple([numbers[y][tuple([choice[k] for k in kept])] for choice in numbers[x]]))
+    return (tuple([len(choices) for choices in rows]), tuple(moves))
 
 
 def lot_sum(world, one, other):

@@ -7,15 +7,18 @@ from arrowworlds.lots import lot_elements, moved_elements, parted_row, sized
 MOST_PARTS = 400
 
 
-def unions_of(masks):
-    """All sets that are put together of some of these sets, perhaps none; raises TooMany(400) if there are more."""
+def unions_of(masks, most):
+    """All sets that are put together of some of these sets, perhaps none; raises TooMany if they are more than most.
+
+    None for most lets any number.
+    """
     found = {0: True}
     for mask in masks:
         if mask not in found:
             more = [mask | other for other in found]
             found.update({both: True for both in more})
-            if len(found) > MOST_PARTS:
-                raise TooMany(MOST_PARTS)
+            if most is not None and len(found) > most:
+                raise TooMany(most)
     return list(found)
 
 
@@ -25,7 +28,7 @@ def parts_of(world, lot):
     places = {element: k for k, element in enumerate(every)}
     moved = moved_elements(world, lot)
     masks = [mask_of([places[other] for _, other in moved[element]]) for element in every]
-    parts = [[every[k] for k in bits_of(mask)] for mask in unions_of(masks)]
+    parts = [[every[k] for k in bits_of(mask)] for mask in unions_of(masks, MOST_PARTS)]
     return tuple(sorted([part_told(world, part) for part in parts]))
 
 
@@ -54,10 +57,15 @@ def so_part(world, lot, one, other):
     return part_told(world, found)
 
 
+def reach_of(world, f):
+    """The set of all arrows that f makes with those that follow it."""
+    return mask_of([both for both in world[2][f] if both >= 0])
+
+
 def fans(world, x):
     """All fans at x, ascending; raises TooMany(400) if there are more."""
-    masks = [mask_of([both for both in world[2][f] if both >= 0]) for f in arrows_from(world, x)]
-    return tuple(sorted([tuple(bits_of(mask)) for mask in unions_of(masks)]))
+    masks = [reach_of(world, f) for f in arrows_from(world, x)]
+    return tuple(sorted([tuple(bits_of(mask)) for mask in unions_of(masks, MOST_PARTS)]))
 
 
 def fan_behind(world, fan, f):
@@ -65,9 +73,14 @@ def fan_behind(world, fan, f):
     return tuple([g for g, both in enumerate(world[2][f]) if both >= 0 and both in fan])
 
 
+def all_fans(world):
+    """For each thing its fans; raises TooMany(400) if there are more at some thing."""
+    return [fans(world, x) for x in range(world[0])]
+
+
 def fan_places(world):
     """For each thing the numbers of its fans; raises TooMany(400), and then TooMany(40)."""
-    every = [fans(world, x) for x in range(world[0])]
+    every = all_fans(world)
     sized([len(rows) for rows in every])
     return [{fan: k for k, fan in enumerate(rows)} for rows in every]
 

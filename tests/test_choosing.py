@@ -6,7 +6,7 @@ import unittest
 
 from arrowworlds import errors
 from arrowworlds.bits import mask_of
-from arrowworlds.choosing import Choosing, all_rows, count_rows, rows_told
+from arrowworlds.choosing import all_rows, count_rows, rows_told, search_by
 from tests.samples import raised, seconds
 
 
@@ -96,7 +96,7 @@ class Rows(unittest.TestCase):
         self.assertLess(seconds(all_rows, ten, [], 1000), 1)
 
     def test_trees(self):
-        tree = Choosing([3, 3, 4], [(0, 1, SAME, SAME)], 1000).whole_tree()
+        tree = search_by([3, 3, 4], [(0, 1, SAME, SAME)], 1000).whole_tree()
         self.assertEqual((tree[0], tree[1]), (2, {2: 2}))
         rows = sorted(tuple(row[k] for k in range(3)) for row in rows_told(tree))
         self.assertEqual(rows, [(0, 0, 2), (1, 1, 2)])

@@ -37,6 +37,13 @@ INTERFACE = {
     "lots": ("lot_breach(world, value)", "single(world, x)", "lot_families(world, one, other)",
              "family_of(world, lot, x, k)", "are_lot_copies(world, one, other)", "element_world(world, lot)",
              "element_map(world, lot)", "lot_sum(world, one, other)", "lot_product(world, one, other)"),
+    "moved": ("pulled(one, other, along, lot)", "pushed(one, other, along, lot)", "gathered(one, other, along, lot)"),
+    "covers": ("book_breach(world, value)", "least_book(world, told)", "all_books(world)", "cores(world)",
+               "core_of(world, book)", "book_of(world, core)"),
+    "glue": ("fitting(world, lot, fan)", "is_apart(world, book, lot)", "is_glued(world, book, lot)",
+             "glued_once(world, book, lot)", "glue_family(world, book, lot)", "glued(world, book, lot)"),
+    "backturns": ("fraction_breach(world, kind)", "turnable_kind(world)", "turned_back(world, kind)",
+                  "into_turned_back(world, kind)", "kept_kind(world, kind)"),
     "truths": ("parts_of(world, lot)", "so_part(world, lot, one, other)", "fans(world, x)",
                "fan_behind(world, fan, f)", "truths(world)", "truth_family(world, lot, part)"),
 }

@@ -21,7 +21,7 @@ NODES = (
     ast.UnaryOp, ast.Not, ast.USub, ast.Compare, ast.Eq, ast.NotEq, ast.Lt, ast.LtE, ast.Gt, ast.GtE, ast.Is,
     ast.IsNot, ast.In, ast.NotIn, ast.Call, ast.keyword, ast.IfExp, ast.Attribute, ast.Subscript, ast.Slice,
     ast.Name, ast.Load, ast.Store, ast.Constant, ast.Tuple, ast.List, ast.Dict, ast.ListComp, ast.DictComp,
-    ast.comprehension, ast.Lambda, ast.BitAnd, ast.BitOr, ast.LShift, ast.JoinedStr, ast.FormattedValue)
+    ast.comprehension, ast.Lambda, ast.BitAnd, ast.BitOr, ast.LShift, ast.RShift, ast.JoinedStr, ast.FormattedValue)
 BUILTINS = ("len", "range", "enumerate", "zip", "min", "max", "sum", "abs", "sorted", "reversed", "int", "str", "bool",
             "list", "tuple", "dict", "set", "isinstance", "any", "all", "type", "ValueError")
 METHODS = ("append", "extend", "pop", "get", "items", "setdefault", "index", "count", "copy", "update",
@@ -183,6 +183,8 @@ class Language(unittest.TestCase):
         above = parents[node]
         if isinstance(above, ast.ClassDef):
             self.assertEqual(node.id, "ValueError")
+        elif isinstance(above, ast.keyword):
+            self.assertEqual((above.arg, node.id), ("key", "len"))
         elif isinstance(above, ast.Compare):
             self.assertIsInstance(above.left, ast.Call)
             self.assertEqual(above.left.func.id, "type")
@@ -193,7 +195,7 @@ class Language(unittest.TestCase):
 
     def check_builtin_call(self, call, parents):
         name, above = call.func.id, parents[call]
-        self.assertEqual(call.keywords, [])
+        self.assertIn([part.arg for part in call.keywords], ([], ["key"]) if name == "min" else ([],))
         if name == "type":
             self.assertIsInstance(above, ast.Compare)
             self.assertEqual(len(above.ops), 1)
