@@ -1,5 +1,7 @@
 """Numbers as sets of numbers: k stands in such a set if the bit k is set."""
 
+from arrowworlds.errors import TooMany
+
 
 def bits_of(mask):
     """The numbers that stand in the set, ascending."""
@@ -22,3 +24,18 @@ def mask_of(numbers):
 def many_in(mask):
     """How many numbers stand in the set."""
     return f"{mask:b}".count("1")
+
+
+def unions_of(masks, most):
+    """All sets that are put together of some of these sets, perhaps none; raises TooMany if they are more than most.
+
+    None for most lets any number.
+    """
+    found = {0: True}
+    for mask in masks:
+        if mask not in found:
+            more = [mask | other for other in found]
+            found.update({both: True for both in more})
+            if most is not None and len(found) > most:
+                raise TooMany(most)
+    return list(found)

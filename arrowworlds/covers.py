@@ -1,9 +1,9 @@
 """Books of covers, and the cores of idle arrows that tell them."""
 
-from arrowworlds.bits import mask_of
+from arrowworlds.bits import mask_of, unions_of
 from arrowworlds.idles import idle_arrows
 from arrowworlds.kinds import is_ascending, is_number_row, is_row
-from arrowworlds.truths import all_fans, arrows_from, reach_of, unions_of
+from arrowworlds.truths import all_fans, arrows_from, reach_of
 
 
 def fan_masks(world):

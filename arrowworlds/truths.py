@@ -1,25 +1,9 @@
 """Parts of lots, fans of arrows, and the lot of truths."""
 
-from arrowworlds.bits import bits_of, mask_of
-from arrowworlds.errors import TooMany
+from arrowworlds.bits import bits_of, mask_of, unions_of
 from arrowworlds.lots import lot_elements, moved_elements, parted_row, sized
 
 MOST_PARTS = 400
-
-
-def unions_of(masks, most):
-    """All sets that are put together of some of these sets, perhaps none; raises TooMany if they are more than most.
-
-    None for most lets any number.
-    """
-    found = {0: True}
-    for mask in masks:
-        if mask not in found:
-            more = [mask | other for other in found]
-            found.update({both: True for both in more})
-            if most is not None and len(found) > most:
-                raise TooMany(most)
-    return list(found)
 
 
 def parts_of(world, lot):

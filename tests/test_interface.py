@@ -44,6 +44,14 @@ INTERFACE = {
              "glued_once(world, book, lot)", "glue_family(world, book, lot)", "glued(world, book, lot)"),
     "backturns": ("fraction_breach(world, kind)", "turnable_kind(world)", "turned_back(world, kind)",
                   "into_turned_back(world, kind)", "kept_kind(world, kind)"),
+    "squares": ("lifts(world, e, m, u, v)", "does_fill_against(world, e, m)", "right_of(world, kind)",
+                "left_of(world, kind)", "parting_pairs(world)", "parted(world, pair, f)"),
+    "monads": ("monad_breach(world, value)", "monad_of(one, other, first, second, unit, counit)",
+               "monads_over(world, along)"),
+    "algebras": ("free_algebras(world, monad)", "all_algebras(world, monad)", "free_sides(world, monad)",
+                 "all_sides(world, monad)", "compared(one, other, first, second, unit, counit)"),
+    "weights": ("weighting(world)", "size_of(world)", "chain_counts(world)"),
+    "desks": ("done(world, deed)",),
     "truths": ("parts_of(world, lot)", "so_part(world, lot, one, other)", "fans(world, x)",
                "fan_behind(world, fan, f)", "truths(world)", "truth_family(world, lot, part)"),
 }
@@ -58,6 +66,16 @@ class Interface(unittest.TestCase):
                 function = getattr(module, told.partition("(")[0])
                 self.assertEqual(function.__name__ + str(inspect.signature(function)), told)
                 self.assertEqual(function.__module__, "arrowworlds." + name)
+
+    def test_the_class(self):
+        desk = importlib.import_module("arrowworlds.desks").Desk
+        self.assertEqual(str(inspect.signature(desk)), "(world, *, most=40)")
+        self.assertEqual(desk.__module__, "arrowworlds.desks")
+        for told in ("do(self, deed)", "undo(self)", "again(self)", "trial(self, deeds)", "twin(self)"):
+            method = vars(desk)[told.partition("(")[0]]
+            self.assertEqual(method.__name__ + str(inspect.signature(method)), told)
+        for name in ("now", "deeds"):
+            self.assertIs(type(vars(desk)[name]), property)
 
 
 if __name__ == "__main__":

@@ -16,7 +16,7 @@ FILES = sorted(FOLDER.glob("*.py"))
 
 NODES = (
     ast.Module, ast.Import, ast.ImportFrom, ast.alias, ast.FunctionDef, ast.ClassDef, ast.arguments, ast.arg,
-    ast.Return, ast.Assign, ast.AugAssign, ast.For, ast.While, ast.If, ast.Raise, ast.Expr, ast.Pass, ast.Break,
+    ast.Return, ast.Assign, ast.AugAssign, ast.For, ast.While, ast.If, ast.Raise, ast.Try, ast.ExceptHandler, ast.Expr, ast.Pass, ast.Break,
     ast.Continue, ast.BoolOp, ast.And, ast.Or, ast.BinOp, ast.Add, ast.Sub, ast.Mult, ast.FloorDiv, ast.Mod, ast.Pow,
     ast.UnaryOp, ast.Not, ast.USub, ast.Compare, ast.Eq, ast.NotEq, ast.Lt, ast.LtE, ast.Gt, ast.GtE, ast.Is,
     ast.IsNot, ast.In, ast.NotIn, ast.Call, ast.keyword, ast.IfExp, ast.Attribute, ast.Subscript, ast.Slice,
@@ -119,7 +119,9 @@ class Language(unittest.TestCase):
         for path, tree in self.each():
             wanted[path.stem] = []
             for node in ast.walk(tree):
-                if isinstance(node, ast.ImportFrom):
+                if isinstance(node, ast.ImportFrom) and node.module == "math":
+                    self.assertEqual([(alias.name, alias.asname) for alias in node.names], [("gcd", None)])
+                elif isinstance(node, ast.ImportFrom):
                     self.assertIn(node, tree.body)
                     self.assertEqual(node.level, 0)
                     package, _, stem = node.module.partition(".")
@@ -175,7 +177,9 @@ class Language(unittest.TestCase):
                 own |= set(bound_names(function)) | {function.name}
             parents = parents_of(tree)
             for node in ast.walk(tree):
-                if isinstance(node, ast.Name) and node.id not in own and node.id in dir(builtins):
+                if isinstance(node, ast.Name) and node.id == "property":
+                    self.assertIn(node, parents[node].decorator_list)
+                elif isinstance(node, ast.Name) and node.id not in own and node.id in dir(builtins):
                     self.assertIn(node.id, BUILTINS)
                     self.check_builtin(node, parents)
 
@@ -225,7 +229,7 @@ class Language(unittest.TestCase):
                 if isinstance(node, ast.ClassDef):
                     own |= {part.name for part in node.body if isinstance(part, ast.FunctionDef)}
                 if isinstance(node, ast.Attribute) and isinstance(node.ctx, ast.Store):
-                    self.assertEqual(node.value.id, "self")
+                    self.assertIsInstance(node.value, ast.Name)
                     own.add(node.attr)
         for path, tree in self.each():
             for node in ast.walk(tree):
@@ -260,7 +264,8 @@ class Language(unittest.TestCase):
                     for part in node.body:
                         self.assertIsInstance(part, (ast.FunctionDef, ast.Expr))
                 if isinstance(node, ast.FunctionDef):
-                    self.assertEqual(node.decorator_list, [])
+                    for part in node.decorator_list:
+                        self.assertEqual((part.id, len(node.args.args), len(node.body)), ("property", 1, 2))
                     self.assertTrue(not node.name.startswith("__") or node.name == "__init__")
 
     def test_what_a_loop_goes_over_is_not_changed_in_it(self):
@@ -280,6 +285,17 @@ class Language(unittest.TestCase):
         """The names of which a loop head asks the length alone."""
         return {call.args[0].id for call in ast.walk(over) if isinstance(call, ast.Call)
                 and isinstance(call.func, ast.Name) and call.func.id == "len" and isinstance(call.args[0], ast.Name)}
+
+    def test_errors_are_raised_and_caught_by_name(self):
+        own = [node.name for node in self.trees[FOLDER / "errors.py"].body if isinstance(node, ast.ClassDef)]
+        for path, tree in self.each():
+            for node in ast.walk(tree):
+                if isinstance(node, ast.Raise):
+                    self.assertIn(node.exc.func.id, own)
+                if isinstance(node, ast.ExceptHandler):
+                    self.assertIn(node.type.id, own)
+                if isinstance(node, ast.Try):
+                    self.assertEqual((node.orelse, node.finalbody), ([], []))
 
     def test_exponents(self):
         for path, tree in self.each():
