@@ -9,7 +9,7 @@ one another. So few searches tell many copies.
 from arrowworlds.bits import bits_of
 from arrowworlds.choices import narrowest, settled_at, settled_places
 from arrowworlds.errors import TooMany
-from arrowworlds.leading import Leading
+from arrowworlds.leading import Leading, landing_of
 from arrowworlds.shades import alike_arrows, traits_of
 
 # So many dead ends of one search cost about as much as the sharp traits.
@@ -73,7 +73,7 @@ def movers_by_level(world, traits, most, patience):
 
     It stops at the level at which there are more than most copies in all.
     """
-    search = Leading(world, world, True)
+    search = Leading(world, landing_of(world), True)
     still = tuple(range(len(world[1])))
     movers, found = [], []
     many = 1
@@ -96,7 +96,7 @@ def self_movers(world, most):
 def search_one(one, other, sharp, patience):
     """The list of one copy, told by its listing, or of none if there is none; None without patience."""
     choices = alike_arrows(traits_of(one, sharp), traits_of(other, sharp))
-    return Leading(one, other, True).found(choices, settled_places(choices), 0, patience)
+    return Leading(one, landing_of(other), True).found(choices, settled_places(choices), 0, patience)
 
 
 def one_copy(one, other):

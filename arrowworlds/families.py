@@ -4,7 +4,8 @@ from arrowworlds.bits import mask_of
 from arrowworlds.choosing import all_rows, count_rows
 from arrowworlds.kinds import is_number_row
 from arrowworlds.making import check_sizes, made_world
-from arrowworlds.maps import maps_between
+from arrowworlds.mapping import Mapping
+from arrowworlds.maps import MOST_MAPS
 from arrowworlds.worlds import between
 
 MOST_FAMILIES = 1000
@@ -90,8 +91,9 @@ def named_families(one, other, first, second):
 
 def map_world(one, other):
     """The world whose things are the maps from one to other and whose arrows are the families between them."""
-    maps = maps_between(one, other)
-    check_sizes(len(maps), 0)
+    mapping = Mapping(one, other, MOST_MAPS)
+    check_sizes(mapping.many, 0)
+    maps = mapping.maps()
     check_sizes(len(maps), many_families(one, other, maps))
     stills = [(map_name(along), map_name(along), along[0]) for along in maps]
     arrows = [arrow for first in maps for second in maps for arrow in named_families(one, other, first, second)]

@@ -42,18 +42,22 @@ def told_pairs(table, back, chiefs):
     return found
 
 
+def landing_of(other):
+    """What the search asks of the world to which it leads: its tables both ways, their origins, and what they keep."""
+    tables = (other[2], turned(other)[2])
+    return (tables, [origins_of(table) for table in tables], [kept_by(table) for table in tables])
+
+
 class Leading:
     """Leads arrows so that f and then g goes to what f and g go to, one behind the other.
 
-    If it is strict, no two arrows go to one.
+    The world to which it leads is told by landing_of. If it is strict, no two arrows go to one.
     """
 
-    def __init__(self, one, other, strict):
+    def __init__(self, one, landing, strict):
         self.chiefs = chiefs_of(one)
         self.pairs = told_pairs(one[2], turned(one)[2], self.chiefs)
-        self.tables = (other[2], turned(other)[2])
-        self.origins = [origins_of(table) for table in self.tables]
-        self.kept = [kept_by(table) for table in self.tables]
+        self.tables, self.origins, self.kept = landing
         self.strict = strict
 
     def take_away(self, left, f, waiting):

@@ -1,11 +1,8 @@
 """Maps from worlds to worlds."""
 
 from arrowworlds.arrows import back_of
-from arrowworlds.bits import mask_of
-from arrowworlds.choices import settled_places
-from arrowworlds.errors import TooMany
 from arrowworlds.kinds import is_number_row, is_row
-from arrowworlds.leading import Leading
+from arrowworlds.mapping import Mapping
 from arrowworlds.worlds import between
 
 MOST_MAPS = 1000
@@ -60,22 +57,9 @@ def behind(first, second):
     return (things, tuple([second[1][f] for f in first[1]]))
 
 
-def map_choices(one, other):
-    """For each arrow of one the arrows of other that it may go to, by stillness and by ends."""
-    stills = (1 << other[0]) - 1
-    loops = mask_of([g for g, (x, y) in enumerate(other[1]) if x == y])
-    every = (1 << len(other[1])) - 1
-    rest = [loops if x == y else every for x, y in one[1][one[0]:]]
-    return [stills for _ in range(one[0])] + rest
-
-
 def maps_between(one, other):
     """All maps from one to other, ascending; raises TooMany(1000) if there are more."""
-    choices = map_choices(one, other)
-    leads = Leading(one, other, False).found(choices, settled_places(choices), MOST_MAPS, None)
-    if len(leads) > MOST_MAPS:
-        raise TooMany(MOST_MAPS)
-    return tuple([(q[:one[0]], q) for q in sorted(leads)])
+    return Mapping(one, other, MOST_MAPS).maps()
 
 
 def is_full(one, other, along):

@@ -8,7 +8,7 @@ from arrowworlds.bits import bits_of
 from arrowworlds.copying import (PATIENCE, all_copies, level_movers, levels_of, movers_by_level, movers_to, one_copy,
                                  put_behind, self_movers)
 from arrowworlds.joins import are_copies, copies
-from arrowworlds.leading import Leading
+from arrowworlds.leading import Leading, landing_of
 from arrowworlds.made import product, sum_of
 from arrowworlds.orders import apart_world, chain_world, loop_world
 from arrowworlds.shades import alike_arrows, traits_of
@@ -162,7 +162,7 @@ class Movers(unittest.TestCase):
 
     def test_levels(self):
         for world in (EMPTY, POINT, CHAIN3):
-            search = Leading(world, world, True)
+            search = Leading(world, landing_of(world), True)
             traits = traits_of(world, False)
             self.assertEqual(levels_of(search, alike_arrows(traits, traits)), [])
             self.assertEqual(self_movers(world, 1000), [])
@@ -185,7 +185,7 @@ class Movers(unittest.TestCase):
         self.assertIsNotNone(movers_by_level(world, traits_of(world, True), 10 ** 9, None))
         self.assertGreater(PATIENCE, 0)
         # The arrow 1 of a ring of 4 can go to 3, but not to 2.
-        search = Leading(ring(4), ring(4), True)
+        search = Leading(ring(4), landing_of(ring(4)), True)
         level = ([1, 0b1110, 0b1110, 0b1110], 1)
         still = (0, 1, 2, 3)
         self.assertIsNone(level_movers(search, level, [], still, 0))

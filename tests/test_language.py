@@ -107,7 +107,8 @@ class Language(unittest.TestCase):
                     self.assertTrue(k == 0 and isinstance(node.value.value, str))
                 elif isinstance(node, ast.Assign):
                     self.assertEqual(len(node.targets), 1)
-                    self.assertIsInstance(node.value, ast.Constant)
+                    for part in ast.walk(node.value):
+                        self.assertIsInstance(part, (ast.Constant, ast.Tuple, ast.Load))
                 else:
                     self.assertIsInstance(node, (ast.ImportFrom, ast.FunctionDef, ast.ClassDef))
             names = module_names(tree)

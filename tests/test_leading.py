@@ -4,8 +4,8 @@ import unittest
 
 from arrowworlds.bits import bits_of, many_in, mask_of
 from arrowworlds.choices import narrowest, settled_at, settled_places
-from arrowworlds.leading import Leading
-from tests.samples import CHAIN2, EMPTY, FORK, IDLE, POINT, TWO, hand, loops, null, ring
+from arrowworlds.leading import Leading, landing_of
+from tests.samples import CHAIN2, EMPTY, FORK, IDLE, POINT, TWO, hand, null, ring
 
 
 def masks(rows):
@@ -16,7 +16,7 @@ class Searches(unittest.TestCase):
 
     def found(self, one, other, strict, rows, most=1000):
         choices = masks(rows)
-        return sorted(Leading(one, other, strict).found(choices, settled_places(choices), most, None))
+        return sorted(Leading(one, landing_of(other), strict).found(choices, settled_places(choices), most, None))
 
     def test_bits(self):
         self.assertEqual(bits_of(0), [])
@@ -68,13 +68,13 @@ class Searches(unittest.TestCase):
     def test_choices_stay_as_they_are(self):
         choices = masks([[0], [1, 2], [0, 1, 2, 3], [0, 1, 2, 3]])
         before = repr(choices)
-        Leading(ring(4), ring(4), False).found(choices, [0], 1000, None)
+        Leading(ring(4), landing_of(ring(4)), False).found(choices, [0], 1000, None)
         self.assertEqual(repr(choices), before)
 
     def test_patience(self):
         # Each of the arrows 1 to 6 leads to a dead end.
         choices = masks([[0], list(range(7))])
-        search = Leading(ring(2), loops([[(a + b) % 7 for b in range(7)] for a in range(7)]), False)
+        search = Leading(ring(2), landing_of(ring(7)), False)
         self.assertEqual(search.found(choices, [0], 1000, None), [(0, 0)])
         self.assertEqual(search.found(choices, [0], 1000, 6), [(0, 0)])
         self.assertIsNone(search.found(choices, [0], 1000, 5))
