@@ -1,6 +1,5 @@
 """[46]: the worlds of free algebras and of all algebras of a monad."""
 
-import random
 import unittest
 
 from arrowworlds import errors
@@ -15,9 +14,9 @@ from arrowworlds.partners import partnerships
 from arrowworlds.reflections import reflecting_parts
 from arrowworlds.worlds import world_breach
 from tests.samples import (APART8, BACK, CHAIN2, CHAIN3, EMPTY, POINT, SMALL, SPLIT, between_by_words, check_calls,
-                           drawn_maps, hand, named_world, raised, random_worlds, ring, seconds)
+                           hand, named_world, raised, random_worlds, ring, seconds)
 from tests.test_cones import CROSS, SQUARE
-from tests.test_monads import TO_END, all_monads
+from tests.test_monads import TO_END, all_monads, all_partnerships
 
 FORTY = (errors.TooMany, {"limit": 40})
 WORLDS = SMALL + (SQUARE, CROSS, sum_of(BACK, CHAIN3), product(BACK, CHAIN2)) + tuple(random_worlds(460, 16, 9))
@@ -209,16 +208,10 @@ class Compared(unittest.TestCase):
         self.assertEqual(compared(EMPTY, EMPTY, ((), ()), ((), ()), (), ()), ((), ()))
 
     def test_by_the_words(self):
-        rng = random.Random(469)
         seen = 0
-        for one in WORLDS:
-            for other in WORLDS:
-                for first in drawn_maps(rng, one, other, 2):
-                    for second in drawn_maps(rng, other, one, 2):
-                        if raised(partnerships, one, other, first, second) is None:
-                            for unit, counit in partnerships(one, other, first, second)[:2]:
-                                self.check(one, other, first, second, unit, counit)
-                                seen += 1
+        for told in all_partnerships(469, WORLDS, 2):
+            self.check(*told)
+            seen += 1
         self.assertGreater(seen, 80)
 
     def check(self, one, other, first, second, unit, counit):

@@ -13,8 +13,8 @@ from arrowworlds.joins import joined
 from arrowworlds.made import part_of, product, renumbered, sum_of
 from arrowworlds.orders import apart_world, chain_world
 from arrowworlds.worlds import turned, world_breach
-from tests.samples import (APART8, BACK, CHAIN2, CHAIN3, EMPTY, FORK, IDLE, POINT, SMALL, SPLIT, TWO, WRONG_VALUES, band,
-                           check_calls, hand, is_plain, raised, random_worlds, ring, seconds, with_others)
+from tests.samples import (APART8, BACK, CHAIN2, CHAIN3, EMPTY, FORK, IDLE, POINT, SMALL, SPLIT, TWO, WRONG_VALUES,
+                           band, check_calls, hand, is_plain, raised, random_worlds, ring, seconds, with_others)
 
 NO_DEED = (errors.NotDeed, {})
 NOT_DONE = (errors.NotDone, {})
@@ -105,7 +105,8 @@ class Done(unittest.TestCase):
 
     def test_values_that_are_none(self):
         self.check_none(CHAIN2, *WRONG_VALUES)
-        self.check_none(CHAIN2, "turn", ["turn"], ("Turn",), ("turned",), (b"turn",), (None,), (0,), (("turn",),), ("",))
+        self.check_none(CHAIN2, "turn", ["turn"], ("Turn",), ("turned",), (b"turn",), (None,), (0,), (("turn",),),
+                        ("",))
         self.check_none(CHAIN2, ("turn", ()), ("turn", None), ("turn", "turn"), ("skeleton", 0), ("complete", CHAIN2))
         self.check_none(CHAIN2, *[(word,) for word in WORDS if word not in ("turn", "skeleton", "complete")])
         for word in WORDS:
@@ -360,7 +361,8 @@ class Desks(unittest.TestCase):
         act = rng.choice(("do", "do", "do", "undo", "undo", "again", "again", "trial", "twin", "bad"))
         before = state(desk)
         if act in ("do", "bad"):
-            deed = drawn_deed(rng, desk.now) if act == "do" else rng.choice(WRONG_VALUES + (("turn", 1), ("part", (9,))))
+            bad = rng.choice(WRONG_VALUES + (("turn", 1), ("part", (9,))))
+            deed = drawn_deed(rng, desk.now) if act == "do" else bad
             expected = model.do(deed)
             self.assertEqual(raised_or_told(desk.do, deed), expected)
             if expected is not None:
@@ -432,8 +434,8 @@ class Model:
 class Calls(unittest.TestCase):
 
     def test_calls(self):
-        for deed in (("turn",), ("times", TWO), ("beside", POINT), ("part", (1,)), ("list", (1, 0)), ("join", ((2, 3),)),
-                     ("skeleton",), ("complete",), ("back", (0, 1))):
+        for deed in (("turn",), ("times", TWO), ("beside", POINT), ("part", (1,)), ("list", (1, 0)),
+                     ("join", ((2, 3),)), ("skeleton",), ("complete",), ("back", (0, 1))):
             check_calls(self, done, {"world": FORK, "deed": deed})
             before = repr(deed)
             desk = Desk(FORK)

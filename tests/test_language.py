@@ -16,12 +16,13 @@ FILES = sorted(FOLDER.glob("*.py"))
 
 NODES = (
     ast.Module, ast.Import, ast.ImportFrom, ast.alias, ast.FunctionDef, ast.ClassDef, ast.arguments, ast.arg,
-    ast.Return, ast.Assign, ast.AugAssign, ast.For, ast.While, ast.If, ast.Raise, ast.Try, ast.ExceptHandler, ast.Expr, ast.Pass, ast.Break,
-    ast.Continue, ast.BoolOp, ast.And, ast.Or, ast.BinOp, ast.Add, ast.Sub, ast.Mult, ast.FloorDiv, ast.Mod, ast.Pow,
-    ast.UnaryOp, ast.Not, ast.USub, ast.Compare, ast.Eq, ast.NotEq, ast.Lt, ast.LtE, ast.Gt, ast.GtE, ast.Is,
-    ast.IsNot, ast.In, ast.NotIn, ast.Call, ast.keyword, ast.IfExp, ast.Attribute, ast.Subscript, ast.Slice,
-    ast.Name, ast.Load, ast.Store, ast.Constant, ast.Tuple, ast.List, ast.Dict, ast.ListComp, ast.DictComp,
-    ast.comprehension, ast.Lambda, ast.BitAnd, ast.BitOr, ast.LShift, ast.RShift, ast.JoinedStr, ast.FormattedValue)
+    ast.Return, ast.Assign, ast.AugAssign, ast.For, ast.While, ast.If, ast.Raise, ast.Try, ast.ExceptHandler,
+    ast.Expr, ast.Pass, ast.Break, ast.Continue, ast.BoolOp, ast.And, ast.Or, ast.BinOp, ast.Add, ast.Sub, ast.Mult,
+    ast.FloorDiv, ast.Mod, ast.Pow, ast.UnaryOp, ast.Not, ast.USub, ast.Compare, ast.Eq, ast.NotEq, ast.Lt, ast.LtE,
+    ast.Gt, ast.GtE, ast.Is, ast.IsNot, ast.In, ast.NotIn, ast.Call, ast.keyword, ast.IfExp, ast.Attribute,
+    ast.Subscript, ast.Slice, ast.Name, ast.Load, ast.Store, ast.Constant, ast.Tuple, ast.List, ast.Dict,
+    ast.ListComp, ast.DictComp, ast.comprehension, ast.Lambda, ast.BitAnd, ast.BitOr, ast.LShift, ast.RShift,
+    ast.JoinedStr, ast.FormattedValue)
 BUILTINS = ("len", "range", "enumerate", "zip", "min", "max", "sum", "abs", "sorted", "reversed", "int", "str", "bool",
             "list", "tuple", "dict", "set", "isinstance", "any", "all", "type", "ValueError")
 METHODS = ("append", "extend", "pop", "get", "items", "setdefault", "index", "count", "copy", "update",

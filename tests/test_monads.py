@@ -55,6 +55,18 @@ def all_monads(seed, worlds, many):
                     yield world, monad
 
 
+def all_partnerships(seed, worlds, many):
+    """Drawn maps there and back between the worlds, with some of their partnerships."""
+    rng = random.Random(seed)
+    for one in worlds:
+        for other in worlds:
+            for first in drawn_maps(rng, one, other, 2):
+                for second in drawn_maps(rng, other, one, 2):
+                    if raised(partnerships, one, other, first, second) is None:
+                        for unit, counit in partnerships(one, other, first, second)[:many]:
+                            yield one, other, first, second, unit, counit
+
+
 class Breaches(unittest.TestCase):
 
     def check(self, world, value, word):
@@ -165,22 +177,14 @@ class MonadsOf(unittest.TestCase):
         self.assertEqual(monad_of(EMPTY, EMPTY, ((), ()), ((), ()), (), ()), (((), ()), (), ()))
 
     def test_of_all_partnerships(self):
-        rng = random.Random(453)
         seen = 0
-        for one in WORLDS:
-            for other in WORLDS:
-                for first in drawn_maps(rng, one, other, 2):
-                    for second in drawn_maps(rng, other, one, 2):
-                        if raised(partnerships, one, other, first, second) is None:
-                            for unit, counit in partnerships(one, other, first, second)[:3]:
-                                monad = monad_of(one, other, first, second, unit, counit)
-                                self.assertIsNone(monad_breach(one, monad))
-                                self.assertEqual(monad[0], behind(first, second))
-                                self.assertEqual(monad[1], unit)
-                                self.assertEqual(monad[2], tuple(second[1][counit[first[0][x]]]
-                                                                 for x in range(one[0])))
-                                self.assertIn(monad, monads_over(one, monad[0]))
-                                seen += 1
+        for one, other, first, second, unit, counit in all_partnerships(453, WORLDS, 3):
+            monad = monad_of(one, other, first, second, unit, counit)
+            self.assertIsNone(monad_breach(one, monad))
+            self.assertEqual(monad[:2], (behind(first, second), unit))
+            self.assertEqual(monad[2], tuple(second[1][counit[first[0][x]]] for x in range(one[0])))
+            self.assertIn(monad, monads_over(one, monad[0]))
+            seen += 1
         self.assertGreater(seen, 100)
 
 

@@ -206,7 +206,8 @@ class Parting(unittest.TestCase):
 
     def test_twelve_arrows(self):
         self.assertEqual(len(parting_pairs(hand(2, [(0, 1)] * 12))), 4096)
-        self.assertEqual(list(parting_pairs(hand(2, [(0, 1)] * 12))), sorted(set(parting_pairs(hand(2, [(0, 1)] * 12)))))
+        every = parting_pairs(hand(2, [(0, 1)] * 12))
+        self.assertEqual(list(every), sorted(set(every)))
         self.assertEqual(raised(parting_pairs, hand(2, [(0, 1)] * 13)), TWELVE)
         self.assertEqual(raised(parting_pairs, chain_world(8)), TWELVE)
         # Still arrows do not count.
